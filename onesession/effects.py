@@ -165,8 +165,7 @@ def timer(work, number):
 def set_target(work, head, handler, call):
     """Give the target of a handler the outcome of a call, and tell it with the outcome of now."""
     word = outcome(work.app, handler, call)
-    now = outcome(work.app, handler, work.moment()["handler calls"][handler])
-    work.tell(head, handler, word, now)
+    work.tell(head, handler, word, work.moment()["outcomes"][handler])
     set_input(work, work.app.handler_named(handler)[3], word)
 
 

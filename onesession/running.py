@@ -6,6 +6,7 @@ from onesession.errors import BadDeed
 from onesession.settling import settle
 from onesession.work import Work
 
+
 class Step:
     """The standing behind a deed, and the tuple of the events that the deed led to."""
 
@@ -37,3 +38,12 @@ def settled(work):
     """Settle a work and return the Step to which it has led."""
     settle(work)
     return Step(work.packed(), tuple(work.events))
+
+
+def walked(app, rule, standing, deeds):
+    """Return the list of the Steps of some deeds that are done in order, the first one in a standing."""
+    done = []
+    for deed in deeds:
+        done.append(step(app, rule, standing, deed))
+        standing = done[-1].standing
+    return done

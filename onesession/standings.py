@@ -1,6 +1,6 @@
 """What holds in the states of an app and in the standings of a session."""
 
-from onesession.exprs import value
+from onesession.moments import word_called
 
 INPUTS = 0
 EDITIONS = 1
@@ -32,13 +32,7 @@ def call_at(app, slot, inputs, editions, row_word=None):
 
 def result_of(app, slot, call):
     """Return the word to which a call of a late slot leads."""
-    return called(app, app.exprs_of(slot)[1], call)
-
-
-def called(app, exprs, call):
-    """Return the word to which a call of one of these expressions leads."""
-    edition, given = call
-    return value(app.words, exprs[edition], given)
+    return word_called(app, app.exprs_of(slot)[1], call)
 
 
 def lets(app, page, inputs, editions):
@@ -53,7 +47,7 @@ def handler_call(app, handler, inputs, editions):
 
 def outcome(app, handler, call):
     """Return the word to which a call of a handler leads."""
-    return called(app, app.handler_named(handler)[4], call)
+    return word_called(app, app.handler_named(handler)[4], call)
 
 
 def listed_now(app, handler, inputs, editions):
@@ -106,6 +100,13 @@ def calls_there(app, inputs, editions, rows):
     moment = app.moments[(inputs, editions)]
     late = tuple([moment["calls"][slot] for slot in app.late_names])
     return late + tuple([moment["row calls"][word] for _, word in rows])
+
+
+def dues_there(app, inputs, editions, rows):
+    """Return the tuple of the due words of all instances that are there, in their order."""
+    moment = app.moments[(inputs, editions)]
+    late = tuple([moment["dues"][slot] for slot in app.late_names])
+    return late + tuple([moment["row dues"][word] for _, word in rows])
 
 
 def value_of(app, rule, standing, instance):

@@ -314,6 +314,15 @@ class Model:
             words[name[0]] = self.result(self.maker(name[0])[1], call)
         return {check: words[check] for check in self.app.form or ()}
 
+    def screen(self, is_due):
+        """What the person sees, or would see with the due words."""
+        shown = []
+        for slot in self.page_tuple(self.page)[1]:
+            own = [(record[0], call) for name, record, call in self.there() if name[0] == slot]
+            dues = [self.result(self.maker(slot)[1], call) for _, call in own]
+            shown.append((slot, tuple(dues if is_due else [word for word, _ in own])))
+        return (self.page, self.way, tuple(self.inputs.values()), tuple(self.rows), tuple(shown))
+
     def faults(self):
         """The list of the faults of the last deed."""
         found = []

@@ -26,7 +26,34 @@ FUNCTIONS = {
     },
     "deeds": {"is_deed": "app, value", "all_deeds": "app, standing"},
     "running": {"begin": "app, rule", "step": "app, rule, standing, deed"},
+    "judging": {
+        "all_faults": "app", "check_fault": "app, value", "due": "app, rule, standing, instance",
+        "stale": "app, rule, standing", "check_due": "app, rule, standing, check", "faults": "app, rule, step",
+    },
+    "screens": {"screen": "app, rule, standing", "due_screen": "app, rule, standing"},
+    "journal": {
+        "play": "app, rule, deeds", "shows": "app, rule, deeds, fault", "outer": "app, deeds",
+        "replay": "app, rule, deeds", "prompt": "app, rule, deeds", "calm": "app, rule, standing",
+        "ends": "app, rule, deeds, *, limit=1000",
+    },
+    "reopening": {
+        "saved": "app, rule, standing", "is_saved": "app, rule, value", "opened": "app, rule, value, editions",
+        "given_up": "app, rule, standing", "visits": "app, deeds", "shortened": "app, rule, deeds",
+    },
+    "windows": {
+        "is_window_deed": "windows, value", "all_window_deeds": "windows, standing", "begin_windows": "windows",
+        "step_windows": "windows, standing, deed", "is_all_quiet": "standing", "words_of": "windows, standing, slot",
+        "own_deeds": "windows, deeds, window", "settling": "windows, standing", "window_faults": "windows, shown",
+        "apart_inputs": "windows", "apart_session": "windows, slot",
+    },
+    "conditions": {
+        "spots": "app, slot", "call_in": "app, slot, spot", "told_apart": "rule, call, other", "pages_come_to": "app",
+        "wanting_pages": "app, rule, slot", "unsettled_reason": "app, rule, slot",
+        "held_walk": "app, rule, handler, first, second", "elder_reason": "app, rule, handler",
+        "barred_reason": "app, rule, page", "sent_reason": "app, rule, check",
+    },
 }
+VALUES = {"rules": ("PARTS",), "judging": ("KINDS",), "windows": ("ORDERS",)}
 METHODS = {
     ("apps", "App"): {
         "__init__": "self, words, modules, inputs, pages, *, made=(), late=(), rows=None, handlers=(), form=None",
@@ -39,6 +66,17 @@ METHODS = {
         "turned": "self, part, value", "__eq__": "self, other",
     },
     ("running", "Step"): {"__init__": "self, standing, events"},
+    ("live", "Live"): {
+        "__init__": "self, app, rule, *, standing=None", "do": "self, deed", "land": "self, k",
+        "edit": "self, module, edition", "set_row": "self, row, word", "add_row": "self, row",
+        "drop_row": "self, row", "swap_rows": "self, position", "go": "self, page", "press": "self, handler",
+        "fire_timer": "self, k", "send": "self", "reopen": "self, editions", "faults": "self", "screen": "self",
+        "seen_faults": "self", "trial": "self, deeds", "undo": "self", "redo": "self", "fork": "self",
+        "__getitem__": "self, at", "__setitem__": "self, at, worth", "__iadd__": "self, other", "__len__": "self",
+        "__contains__": "self, x",
+    },
+    ("windows", "Windows"): {"__init__": "self, app, rule, shared, order, number", "__eq__": "self, other"},
+    ("windows", "WindowStep"): {"__init__": "self, standing, steps, heard"},
 }
 
 EXAMPLES = """
@@ -74,8 +112,9 @@ EXAMPLES = """
 >>> first = step(app, rule, begin(app, rule).standing, ("set", "x", "no")).standing
 >>> second = step(app, rule, first, ("land", 1)).standing
 >>> last = step(app, rule, second, ("land", 0))
->>> (last.events, last.standing[5])
-((('taken', 'd', 0),), (('yes', (0, (('x', 'no'),)), (0, (('x', 'yes'),))),))
+>>> from onesession.judging import faults
+>>> (last.events, last.standing[5], faults(app, rule, last))
+((('taken', 'd', 0),), (('yes', (0, (('x', 'no'),)), (0, (('x', 'yes'),))),), [('unsettled', 'd')])
 """
 
 
@@ -105,6 +144,12 @@ class InterfaceTest(unittest.TestCase):
             for method, arguments in methods.items():
                 self.assertIn(method, defined)
                 self.assertEqual(signature(getattr(getattr(module, kind), method)), arguments)
+
+    def test_values_are_assigned_in_their_files(self):
+        for name, values in VALUES.items():
+            targets = [node.targets[0].id for node in tree(name).body if isinstance(node, ast.Assign)]
+            for value in values:
+                self.assertEqual(targets.count(value), 1)
 
     def test_the_examples(self):
         test = doctest.DocTestParser().get_doctest(EXAMPLES, {}, "interface", None, 0)

@@ -16,8 +16,8 @@ PACKAGE = Path(__file__).resolve().parent.parent / "onesession"
 
 NODES = """
     Module FunctionDef ClassDef Return Assign AugAssign For While If Raise Expr Call Attribute Name Constant Tuple List
-    Dict Subscript Slice ListComp DictComp comprehension IfExp BoolOp And Or UnaryOp Not USub BinOp Add Sub Compare Eq NotEq
-    Lt LtE Gt GtE In NotIn Is IsNot Starred keyword arguments arg alias ImportFrom Load Store
+    Dict Subscript Slice ListComp DictComp comprehension IfExp BoolOp And Or UnaryOp Not USub BinOp Add Sub Mult Compare Eq
+    NotEq Lt LtE Gt GtE In NotIn Is IsNot Starred keyword arguments arg alias ImportFrom Load Store
 """.split()
 BUILTINS = """
     len range enumerate zip min max sum abs sorted reversed int str bool bytes list tuple dict set frozenset isinstance ord
@@ -38,7 +38,13 @@ WORDS = """
     type typing typing_extensions enum Enum IntEnum StrEnum Flag IntFlag Generic Protocol ABC ABCMeta namedtuple NamedTuple
     TypedDict TYPE_CHECKING abstractmethod
 """.split()
-DOUBLE = ("__init__", "__eq__", "__repr__", "__str__", "__len__")
+OPERATORS = ("__getitem__", "__setitem__", "__contains__", "__iadd__")
+DOUBLE = ("__init__", "__eq__", "__repr__", "__str__", "__len__", "__iter__") + OPERATORS
+CHANGING = ("append", "clear", "extend", "insert", "pop", "remove", "reverse", "setdefault", "update", "add", "discard")
+OPERATOR_ARGUMENTS = {
+    "__getitem__": ["self", "at"], "__setitem__": ["self", "at", "worth"], "__contains__": ["self", "x"],
+    "__iadd__": ["self", "other"], "__eq__": ["self", "other"], "__len__": ["self"], "__iter__": ["self"],
+}
 ITERATED_AT_ONCE = ("zip", "enumerate", "reversed", "range")
 TAKE_ITERATED = ("list", "tuple", "dict", "sorted", "sum", "any", "all", "enumerate", "zip", "len")
 
@@ -193,7 +199,7 @@ class LanguageTest(unittest.TestCase):
         for file in self.each():
             bound = file.defined() + file.locals() + [node.name for node in file.of(ast.FunctionDef)]
             for name in bound:
-                self.assertRegex(name, r"^(_|_?[A-Za-z][A-Za-z0-9_]*|__(init|eq)__)$")
+                self.assertRegex(name, r"^(_|_?[A-Za-z][A-Za-z0-9_]*|__(init|eq|len|iter|getitem|setitem|contains|iadd)__)$")
                 # A doctest that has run before leaves "_" among the builtins.
                 self.assertNotIn(name, set(dir(builtins)) - {"_"})
                 self.assertNotIn(name, BARRED)
@@ -266,9 +272,9 @@ class LanguageTest(unittest.TestCase):
                     if isinstance(item, ast.Starred):
                         self.assertIsInstance(item.value, ast.Name)
                 for item in node.keywords:
-                    self.assertIsNone(item.arg)
-                    self.assertIsInstance(item.value, ast.Name)
-                    self.assertEqual(len(node.keywords), 1)
+                    if item.arg is None:
+                        self.assertIsInstance(item.value, ast.Name)
+                        self.assertEqual(len(node.keywords), 1)
 
     def test_what_a_loop_goes_over_is_not_changed_in_it(self):
         for file in self.each():
@@ -280,6 +286,46 @@ class LanguageTest(unittest.TestCase):
                             self.assertNotIn(ast.unparse(node.func.value), gone, node.lineno)
                     if isinstance(node, (ast.Attribute, ast.Subscript)) and isinstance(node.ctx, ast.Store):
                         self.assertNotIn(ast.unparse(node), gone)
+
+    def test_the_form_of_operators(self):
+        for file in self.each():
+            for kind in file.of(ast.ClassDef):
+                methods = {node.name: node for node in kind.body if isinstance(node, ast.FunctionDef)}
+                if "__getitem__" in methods:
+                    self.assertEqual(ast.unparse(methods["__iter__"].body[-1])[:16], "raise TypeError(")
+                if "__len__" in methods:
+                    self.assertRegex(ast.unparse(methods["__len__"].body[-1]), r"^return len\(self\.[a-z]+\)$")
+                for name, arguments in OPERATOR_ARGUMENTS.items():
+                    if name in methods:
+                        self.assertEqual([item.arg for item in methods[name].args.args], arguments)
+                        self.assertEqual(methods[name].args.defaults, [])
+
+    def test_operators_and_what_they_call_change_nothing(self):
+        functions = {}
+        for file in FILES:
+            for node in file.of(ast.FunctionDef):
+                functions.setdefault(node.name, []).append(node)
+        left = [node for name in ("__getitem__", "__contains__", "__eq__", "__len__", "__iter__")
+                for node in functions.get(name, [])]
+        self.assertGreater(len(left), 4)
+        seen = []
+        while left:
+            function = left.pop()
+            if function in seen:
+                continue
+            seen.append(function)
+            lists = [node.targets[0].id for node in ast.walk(function) if isinstance(node, ast.Assign)
+                     and isinstance(node.value, (ast.List, ast.ListComp)) and isinstance(node.targets[0], ast.Name)]
+            for node in ast.walk(function):
+                self.assertNotIsInstance(node, ast.AugAssign, function.name)
+                if isinstance(node, (ast.Attribute, ast.Subscript)):
+                    self.assertIsInstance(node.ctx, ast.Load, function.name)
+                if isinstance(node, ast.Call):
+                    name = node.func.id if isinstance(node.func, ast.Name) else node.func.attr
+                    if name in CHANGING:
+                        self.assertIn(node.func.value.id, lists, function.name)
+                    if name in functions:
+                        left.extend(functions[name])
 
     def test_words_and_escapes(self):
         for file in self.each():
