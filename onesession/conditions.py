@@ -284,7 +284,7 @@ def sent_reason(app, rule, check):
     wrong = [state for state in states(app) if not is_right_in(app, check, state)]
     if rule.sending == "go":
         return ("sent", "go", wrong[0], ()) if wrong != [] else None
-    if rule.keep != "keep" or check not in app.late_names:
+    if rule.keep != "keep":
         return None
     for how in hows(rule):
         tables = [right_states(app, rule, how, slot) for slot in app.form]

@@ -1,14 +1,13 @@
 """What is kept of a session when it is closed, and sessions that are closed and opened again."""
 
 from onesession.basics import is_below, is_integer
-from onesession.deeds import IDS, is_deed
-from onesession.errors import BadDeed, NotSaved
+from onesession.deeds import IDS
+from onesession.errors import NotSaved
 from onesession.exprs import reads
 from onesession.journal import check_deeds
 from onesession.running import begin, step, walked
 from onesession.standings import ACTS, EDITIONS, INPUTS, RECORDS, ROWS, calls_there, dues_there, instances
 
-MOST_ROWS = 3
 NOTHING = (None, None, None)
 
 
@@ -39,10 +38,11 @@ def are_inputs(app, value):
 
 def are_rows(app, value):
     """Tell whether a value is a tuple of rows of an app."""
-    if value == () or app.rows is None:
+    if app.rows is None:
         return value == ()
-    if not isinstance(value, tuple) or len(value) > MOST_ROWS or not all([is_row(app, row) for row in value]):
+    if not isinstance(value, tuple) or not all([is_row(app, row) for row in value]):
         return False
+    # There are three ids, so distinct ones are at most three.
     ids = [row[0] for row in value]
     return all([ids.count(row) == 1 for row in ids])
 
@@ -58,9 +58,8 @@ def are_kept(app, rule, many, value):
     """Tell whether a value can be kept of the records, where there are so many rows."""
     if rule.saves == "nothing":
         return value == ()
-    slots = app.late_names
-    if app.rows is not None:
-        slots = slots + app.late_slots[-1:] * many
+    # Where there are rows, the last late slot is theirs.
+    slots = app.late_names + app.late_slots[-1:] * many
     if not isinstance(value, tuple) or len(value) != len(slots):
         return False
     return all([is_kept(app, rule, slot, item) for slot, item in zip(slots, value)])
@@ -100,9 +99,6 @@ def opened(app, rule, value, editions):
     """Return the Step with which a session is opened from what was kept."""
     if not is_saved(app, rule, value):
         raise NotSaved()
-    deed = ("reopen", editions)
-    if not is_deed(app, deed):
-        raise BadDeed(deed)
     inputs, rows, kept = value
     records = tuple([NOTHING for _ in app.late + rows])
     if rule.saves == "records":
@@ -110,7 +106,7 @@ def opened(app, rule, value, editions):
     if rule.saves == "values":
         records = tuple([(word, None, made) for word, made in kept])
     standing = (inputs, editions, rows, app.page_names[0], None, records, (), (), (), False)
-    return step(app, rule, standing, deed)
+    return step(app, rule, standing, ("reopen", editions))
 
 
 def given_up(app, rule, standing):

@@ -19,7 +19,7 @@ class Windows:
             raise InvalidWindows("shared")
         if order not in ORDERS:
             raise InvalidWindows("order")
-        if not is_integer(number) or number not in NUMBERS:
+        if number not in NUMBERS:
             raise InvalidWindows("number")
         self.app = app
         self.rule = rule

@@ -307,6 +307,14 @@ class ReturnTest(ConditionCase):
             found = self.assert_reason(one_late(home_guard=NOT_X), rule, "unsettled", "d", "return")
             self.assertEqual(found[3][0], ("no",))
 
+    def test_the_first_page_that_lets_nowhere_cannot_be_left_for(self):
+        app = one_late(home=(), other=("d",), home_guard=NEVER)
+        for one in ("many", "one"):
+            self.assert_none(app, Rule(ask="needed", one=one), "unsettled", "d")
+            # Under way to a page nothing is asked of the guard of the one that is shown.
+            found = self.assert_reason(app, Rule(ask="needed", one=one, turn="loaded"), "unsettled", "d", "return")
+            self.assertEqual(found[1:3], ("view", "home"))
+
     def test_leaving(self):
         # The page lets where x is right and the other one where it is not, so the calls are unlike there.
         app = one_late(home_guard=X, other_guard=NOT_X)
