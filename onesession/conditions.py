@@ -110,14 +110,15 @@ def return_reason(app, rule, slot):
     if rule.again != "change" or rule.ask != "needed" or slot in checks_of(app):
         return None
     needing = needing_pages(app, slot)
-    others = [page for page in pages_come_to(app) if page not in needing]
-    found = [(page, other) + pair for page in needing for other in others
-             for pair in leavings(app, rule, slot, page, other)]
-    marks = {call_mark(app, rule, slot, spot): spot for spot in spots(app, slot)}
+    others = [name for name in pages_come_to(app) if name not in needing]
+    found = [(name, left_for) + pair for name in needing for left_for in others
+             for pair in leavings(app, rule, slot, name, left_for)]
+    marks = {call_mark(app, rule, slot, any_spot): any_spot for any_spot in spots(app, slot)}
     if found == [] or len(marks) == 1:
         return None
     page, other, spot, leaving = found[0]
-    away = [marks[mark] for mark in marks if mark != call_mark(app, rule, slot, spot)]
+    own = call_mark(app, rule, slot, spot)
+    away = [marks[mark] for mark in marks if mark != own]
     return ("return", page, other, spot, away[0], leaving)
 
 
@@ -197,7 +198,7 @@ def walked_from(app, rule, handler, first):
 def states_beside(app, state):
     """Return the list of the states that differ from a state in one input or in one edition."""
     inputs, editions = state
-    beside = [(replaced(inputs, at, word), editions) for at, old in enumerate(inputs)
+    beside = [(replaced(inputs, place, word), editions) for place, old in enumerate(inputs)
               for word in app.words if word != old]
     for at, (_, count) in enumerate(app.modules):
         beside.extend([(inputs, replaced(editions, at, number)) for number in range(count) if number != editions[at]])
@@ -228,12 +229,18 @@ def held_groups(app, rule, handler, when):
     """Return the list of the lists of states between any two of which a call of a handler can be held."""
     if when == "later":
         return [states(app)] if rule.timers == "held" else []
+    return walked_groups(app, rule, handler) if rule.holds == "listed" else []
+
+
+def walked_groups(app, rule, handler):
+    """Return the list of the lists of states between any two of which a walk leads."""
     groups = []
     seen = {}
     for state in states(app):
-        if rule.holds == "listed" and state not in seen:
-            groups.append(list(walked_from(app, rule, handler, state)))
-            for other in groups[-1]:
+        if state not in seen:
+            group = list(walked_from(app, rule, handler, state))
+            groups.append(group)
+            for other in group:
                 seen[other] = True
     return groups
 
@@ -281,7 +288,7 @@ def has_unlike_calls(app, slot):
 
 def sent_reason(app, rule, check):
     """Return a reason why the form can be sent though a check is not right, or None."""
-    wrong = [state for state in states(app) if not is_right_in(app, check, state)]
+    wrong = [each for each in states(app) if not is_right_in(app, check, each)]
     if rule.sending == "go":
         return ("sent", "go", wrong[0], ()) if wrong != [] else None
     if rule.keep != "keep":

@@ -116,7 +116,7 @@ def ends(app, rule, deeds, *, limit=1000):
 def completed(app, rule, standings, limit):
     """Return the list of some standings and of all to which landings lead from them."""
     row = list(standings)
-    known = {standing: True for standing in row}
+    known = {other: True for other in row}
     at = 0
     while at < len(row):
         standing = row[at]

@@ -152,7 +152,7 @@ def shortened(app, rule, deeds):
 
 def deeds_to(app, standing):
     """Return the list of the deeds that lead to the inputs and the rows of a standing."""
-    told = [("set", slot, word) for (slot, first), word in zip(app.inputs, standing[INPUTS]) if word != first]
+    told = [("set", slot, now) for (slot, first), now in zip(app.inputs, standing[INPUTS]) if now != first]
     for row, word in standing[ROWS]:
         told.append(("add", row))
         if word != app.rows[1]:
