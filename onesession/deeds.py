@@ -90,13 +90,18 @@ def is_deed(app, value):
 
 def all_deeds(app, standing):
     """Return the list of the deeds of the app, with those of the acts and timers that are there."""
-    deeds = [("land", number) for number in range(len(standing[ACTS]))]
+    return deeds_with(app, len(standing[ACTS]), len(standing[TIMERS]))
+
+
+def deeds_with(app, acts, timers):
+    """Return the list of the deeds of the app, with those of so many acts and timers."""
+    deeds = [("land", number) for number in range(acts)]
     deeds.extend([("set", slot, word) for slot in app.input_names for word in app.words])
     deeds.extend([("edit", module, edition) for module, count in app.modules for edition in range(count)])
     deeds.extend(row_deeds(app))
     deeds.extend([("go", page) for page in app.page_names])
     deeds.extend([("press", handler) for handler in app.handler_names])
-    deeds.extend([("timer", number) for number in range(len(standing[TIMERS]))])
+    deeds.extend([("timer", number) for number in range(timers)])
     if app.form is not None:
         deeds.append(("send",))
     every = all_rows([list(range(count)) for _, count in app.modules])

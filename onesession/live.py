@@ -17,8 +17,9 @@ def is_slot(app, value):
 
 def words_there(app, standing, slot):
     """Return the word of a slot in a standing, or for the slots of rows the tuple of their words."""
-    if slot in app.late_names:
-        return standing[RECORDS][app.late_names.index(slot)][0]
+    records = dict(zip(app.late_names, standing[RECORDS]))
+    if slot in records:
+        return records[slot][0]
     if slot in app.late_slots:
         return tuple([record[0] for record in standing[RECORDS][len(app.late):]])
     if app.rows is not None and slot == app.rows[0]:

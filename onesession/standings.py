@@ -9,6 +9,7 @@ PAGE = 3
 WAY = 4
 RECORDS = 5
 ACTS = 6
+HELD = 7
 TIMERS = 8
 
 

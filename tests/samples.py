@@ -179,3 +179,66 @@ def sources(count, start=0):
 def copied(value):
     """A copy of a value, to see later whether the value was changed."""
     return copy.deepcopy(value)
+
+
+def largest_app(source):
+    """A random app with as much as an app may have in every part."""
+    def exprs(slots):
+        return tuple(random_expr(source, YNM, slots) for _ in range(2))
+
+    def module():
+        return source.choice(("m", "n"))
+
+    read = ["x", "y", "z"]
+    made = ()
+    for slot in ("a", "b", "c"):
+        made += ((slot, module(), exprs(read)),)
+        read.append(slot)
+    late = tuple((slot, module(), exprs(read)) for slot in ("d", "e", "f"))
+    rows = ("r", source.choice(YNM), "g", module(), exprs(read + ["r"]))
+    pages = tuple((name, tuple(source.sample("defg", source.randint(0, 4))), (module(), exprs(read)))
+                  for name in ("home", "view", "last"))
+    handlers = tuple((name, module(), source.choice(pages)[0], source.choice("xyz"), exprs(read),
+                      tuple(source.sample(read, 2)), when) for name, when in (("h", "now"), ("k", "later")))
+    inputs = tuple((slot, source.choice(YNM)) for slot in ("x", "y", "z"))
+    return App(YNM, (("m", 2), ("n", 2)), inputs, pages, made=made, late=late, rows=rows, handlers=handlers,
+               form=tuple(source.sample("abcdef", 2)))
+
+
+def tiny_app(source):
+    """A random app with so little in every part that all its standings within bounds are few."""
+    modules = (("m", source.randint(1, 2)),)
+    table = [X, NOT_X, ("word", "yes"), ("word", "no"), X]
+
+    def exprs():
+        return tuple(source.choice(table) for _ in range(modules[0][1]))
+
+    late = (("d", "m", exprs()),) if source.random() < 0.7 else ()
+    made = (("a", "m", exprs()),) if source.random() < 0.3 else ()
+    rows = ("r", "no", "g", "m", tuple(("slot", "r") for _ in exprs())) if source.random() < 0.1 else None
+    slots = [item[0] for item in late] + ([] if rows is None else ["g"])
+    pages = tuple((name, tuple(slots[:source.randint(0, len(slots))]), source.choice((None, None, ("m", exprs()))))
+                  for name in ("home", "view")[:source.randint(1, 2)])
+    handlers = ()
+    if source.random() < 0.4:
+        handlers = (("h", "m", source.choice(pages)[0], "x", exprs(), source.choice(((), ("x",))),
+                     source.choice(("now", "later"))),)
+    checks = tuple(item[0] for item in made + late)
+    form = checks if checks and source.random() < 0.5 else None
+    return App(YN, modules, (("x", source.choice(YN)),), pages, made=made, late=late, rows=rows, handlers=handlers, form=form)
+
+
+def nested(value, deep):
+    """Values that have another one in them, so many lists, tuples or dicts deep."""
+    found = []
+    for wrap in (lambda inner: [inner], lambda inner: (inner,), lambda inner: {"x": inner}):
+        inner = value
+        for _ in range(deep):
+            inner = wrap(inner)
+        found.append(inner)
+    return found
+
+
+# Values as large and as deep as a value may be where a point says "any value".
+LARGE = tuple([10 ** 3999, 1 - 10 ** 3999, "a" * 4000, ("yes\n" * 1000)[:4000], " ~" * 2000, ("yes",) * 4000, ["x"] * 4000,
+               *nested(0, 20), *nested("yes", 20), *nested({}, 20), ([{"x": ([{}],)}],)])

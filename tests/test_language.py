@@ -16,7 +16,7 @@ PACKAGE = Path(__file__).resolve().parent.parent / "onesession"
 
 NODES = """
     Module FunctionDef ClassDef Return Assign AugAssign For While If Raise Expr Call Attribute Name Constant Tuple List
-    Dict Subscript Slice ListComp DictComp comprehension IfExp BoolOp And Or UnaryOp Not USub BinOp Add Sub Mult Compare Eq
+    Dict Subscript Slice Try ExceptHandler ListComp DictComp comprehension IfExp BoolOp And Or UnaryOp Not USub BinOp Add Sub Mult Compare Eq
     NotEq Lt LtE Gt GtE In NotIn Is IsNot Starred keyword arguments arg alias ImportFrom Load Store
 """.split()
 BUILTINS = """
@@ -38,12 +38,12 @@ WORDS = """
     type typing typing_extensions enum Enum IntEnum StrEnum Flag IntFlag Generic Protocol ABC ABCMeta namedtuple NamedTuple
     TypedDict TYPE_CHECKING abstractmethod
 """.split()
-OPERATORS = ("__getitem__", "__setitem__", "__contains__", "__iadd__")
+OPERATORS = ("__getitem__", "__setitem__", "__contains__", "__iadd__", "__ior__", "__isub__")
 DOUBLE = ("__init__", "__eq__", "__repr__", "__str__", "__len__", "__iter__") + OPERATORS
 CHANGING = ("append", "clear", "extend", "insert", "pop", "remove", "reverse", "setdefault", "update", "add", "discard")
 OPERATOR_ARGUMENTS = {
     "__getitem__": ["self", "at"], "__setitem__": ["self", "at", "worth"], "__contains__": ["self", "x"],
-    "__iadd__": ["self", "other"], "__eq__": ["self", "other"], "__len__": ["self"], "__iter__": ["self"],
+    "__iadd__": ["self", "other"], "__ior__": ["self", "other"], "__isub__": ["self", "other"], "__eq__": ["self", "other"], "__len__": ["self"], "__iter__": ["self"],
 }
 ITERATED_AT_ONCE = ("zip", "enumerate", "reversed", "range")
 TAKE_ITERATED = ("list", "tuple", "dict", "sorted", "sum", "any", "all", "enumerate", "zip", "len")
@@ -84,7 +84,38 @@ class File:
 
 FILES = [File(path) for path in sorted(PACKAGE.glob("*.py"))]
 CLASSES = [node for file in FILES for node in file.of(ast.ClassDef)]
-OWN_METHODS = {node.name for kind in CLASSES for node in kind.body if isinstance(node, ast.FunctionDef)}
+METHODS_OF_CLASSES = [node for kind in CLASSES for node in kind.body if isinstance(node, ast.FunctionDef)]
+
+
+def decorators(node):
+    """The decorators of a function as they are written."""
+    return [ast.unparse(item) for item in node.decorator_list]
+
+
+PROPERTIES = {node.name for node in METHODS_OF_CLASSES if decorators(node) == ["property"]}
+CLASS_METHODS = {node.name for node in METHODS_OF_CLASSES if decorators(node) == ["classmethod"]}
+OWN_METHODS = {node.name for node in METHODS_OF_CLASSES} - PROPERTIES
+STORED = {node.attr for file in FILES for node in file.of(ast.Attribute) if isinstance(node.ctx, ast.Store)}
+FUNCTIONS = {}
+for found in FILES:
+    for function in found.of(ast.FunctionDef):
+        FUNCTIONS.setdefault(function.name, []).append(function)
+
+
+def run_by_operators():
+    """All functions and methods that an operator, a comparison, a length or a property that is read runs."""
+    names = ("__getitem__", "__contains__", "__eq__", "__len__", "__iter__")
+    left = [node for name in names for node in FUNCTIONS.get(name, [])]
+    left += [node for name in PROPERTIES for node in FUNCTIONS[name] if decorators(node) == ["property"]]
+    reached = []
+    while left:
+        node = left.pop()
+        if node not in reached:
+            reached.append(node)
+            for call in [item for item in ast.walk(node) if isinstance(item, ast.Call)]:
+                name = call.func.id if isinstance(call.func, ast.Name) else call.func.attr
+                left.extend(FUNCTIONS.get(name, []))
+    return reached
 
 
 def is_docstring(file, node):
@@ -179,8 +210,9 @@ class LanguageTest(unittest.TestCase):
     def test_functions_and_classes(self):
         for file in self.each():
             for node in file.of(ast.FunctionDef):
-                self.assertEqual(node.decorator_list, [])
                 self.assertIsInstance(file.parents[node], (ast.Module, ast.ClassDef))
+                if isinstance(file.parents[node], ast.Module):
+                    self.assertEqual(node.decorator_list, [])
                 for item in node.args.args + node.args.kwonlyargs:
                     self.assertIsNone(item.annotation)
                 if node.name.startswith("__"):
@@ -190,16 +222,64 @@ class LanguageTest(unittest.TestCase):
             for node in file.of(ast.ClassDef):
                 self.assertIsInstance(file.parents[node], ast.Module)
                 self.assertEqual((node.decorator_list, node.keywords), ([], []))
-                names = [item.name for item in node.body if isinstance(item, ast.FunctionDef)]
+                names = [item.name for item in node.body if isinstance(item, ast.FunctionDef)
+                         and decorators(item) != [item.name + ".setter"]]
                 self.assertEqual(len(names), len(set(names)))
                 for item in node.body[1:]:
                     self.assertIsInstance(item, ast.FunctionDef)
+
+    def test_properties_and_class_methods(self):
+        self.assertFalse(PROPERTIES & (OWN_METHODS | CLASS_METHODS))
+        self.assertFalse(CLASS_METHODS & STORED)
+        for file in self.each():
+            for kind in file.of(ast.ClassDef):
+                methods = [item for item in kind.body if isinstance(item, ast.FunctionDef)]
+                for at, node in enumerate(methods):
+                    arguments = [item.arg for item in node.args.args]
+                    if decorators(node) == ["property"]:
+                        self.assertEqual(arguments, ["self"])
+                    elif decorators(node) == [node.name + ".setter"]:
+                        self.assertEqual((arguments, methods[at - 1].name), (["self", "value"], node.name))
+                    elif decorators(node) == ["classmethod"]:
+                        self.assertEqual(arguments[0], "cls")
+                        for item in ast.walk(node):
+                            if isinstance(item, ast.Name) and item.id == "cls":
+                                self.assertIsInstance(file.parents[item], ast.Call)
+                    else:
+                        self.assertEqual(node.decorator_list, [])
+            for node in file.of(ast.Attribute):
+                # No method is read off a class, and no property is assigned or passed behind a star in the package.
+                if isinstance(node.value, ast.Name):
+                    self.assertNotIn(node.value.id, [kind.name for kind in CLASSES])
+                if node.attr in PROPERTIES and isinstance(node.ctx, ast.Store):
+                    methods = [item.name for item in self.class_around(file, node).body[1:]]
+                    self.assertNotIn(node.attr, methods, node.lineno)
+
+    def class_around(self, file, node):
+        while not isinstance(node, ast.ClassDef):
+            node = file.parents[node]
+        return node
+
+    def test_what_is_tried(self):
+        for file in self.each():
+            own = {kind.name for kind in CLASSES}
+            for node in file.of(ast.Try):
+                for handler in node.handlers:
+                    named = handler.type.elts if isinstance(handler.type, ast.Tuple) else [handler.type]
+                    self.assertTrue({item.id for item in named} <= own)
+                    self.assertIsNone(handler.name)
+                for row in node.finalbody:
+                    self.assertIsInstance(row, ast.Assign)
+                    for item in ast.walk(row):
+                        self.assertIsInstance(item, (ast.Assign, ast.Tuple, ast.Name, ast.Attribute, ast.Load, ast.Store))
+                        if isinstance(item, ast.Attribute):
+                            self.assertNotIn(item.attr, PROPERTIES)
 
     def test_names(self):
         for file in self.each():
             bound = file.defined() + file.locals() + [node.name for node in file.of(ast.FunctionDef)]
             for name in bound:
-                self.assertRegex(name, r"^(_|_?[A-Za-z][A-Za-z0-9_]*|__(init|eq|len|iter|getitem|setitem|contains|iadd)__)$")
+                self.assertRegex(name, r"^(_|_?[A-Za-z][A-Za-z0-9_]*|__(init|eq|len|iter|getitem|setitem|contains|iadd|ior|isub)__)$")
                 # A doctest that has run before leaves "_" among the builtins.
                 self.assertNotIn(name, set(dir(builtins)) - {"_"})
                 self.assertNotIn(name, BARRED)
@@ -208,14 +288,15 @@ class LanguageTest(unittest.TestCase):
                 self.assertNotIn(name, taken)
             known = set(bound) | set(BUILTINS)
             for node in file.of(ast.Name):
-                if isinstance(node.ctx, ast.Load):
+                if isinstance(file.parents[node], ast.FunctionDef) and node in file.parents[node].decorator_list:
+                    self.assertIn(node.id, ("property", "classmethod"))
+                elif isinstance(node.ctx, ast.Load):
                     self.assertIn(node.id, known, node.lineno)
                     self.assertNotEqual(node.id, "_")
 
     def test_attributes(self):
-        stored = {node.attr for file in FILES for node in file.of(ast.Attribute) if isinstance(node.ctx, ast.Store)}
         kinds = (str, int, list, dict, bytes, set, tuple)
-        self.assertFalse(stored & OWN_METHODS)
+        self.assertFalse(STORED & OWN_METHODS)
         for file in self.each():
             for node in file.of(ast.Attribute):
                 self.assertNotIn(node.attr, BARRED)
@@ -224,12 +305,12 @@ class LanguageTest(unittest.TestCase):
                 if called:
                     self.assertIn(node.attr, OWN_METHODS | set(METHODS), node.lineno)
                 else:
-                    self.assertIn(node.attr, stored, node.lineno)
+                    self.assertIn(node.attr, STORED | PROPERTIES | {"setter"}, node.lineno)
                 if isinstance(node.ctx, ast.Store):
                     self.assertIsInstance(node.value, ast.Name)
         free = {name for kind in kinds for name in dir(kind)} - {"count", "index", "title"}
-        self.assertFalse(stored & free)
-        self.assertFalse({name for name in OWN_METHODS if not name.startswith("__")} & free)
+        self.assertFalse(STORED & free)
+        self.assertFalse({name for name in OWN_METHODS | PROPERTIES if not name.startswith("__")} & free)
 
     def test_what_is_iterated_at_once(self):
         for file in self.each():
@@ -270,7 +351,11 @@ class LanguageTest(unittest.TestCase):
             for node in file.of(ast.Call):
                 for item in node.args:
                     if isinstance(item, ast.Starred):
-                        self.assertIsInstance(item.value, ast.Name)
+                        if isinstance(item.value, ast.Attribute):
+                            self.assertNotIn(item.value.attr, PROPERTIES)
+                            self.assertIsInstance(item.value.value, ast.Name)
+                        else:
+                            self.assertIsInstance(item.value, ast.Name)
                 for item in node.keywords:
                     if item.arg is None:
                         self.assertIsInstance(item.value, ast.Name)
@@ -301,31 +386,33 @@ class LanguageTest(unittest.TestCase):
                         self.assertEqual(methods[name].args.defaults, [])
 
     def test_operators_and_what_they_call_change_nothing(self):
-        functions = {}
-        for file in FILES:
-            for node in file.of(ast.FunctionDef):
-                functions.setdefault(node.name, []).append(node)
-        left = [node for name in ("__getitem__", "__contains__", "__eq__", "__len__", "__iter__")
-                for node in functions.get(name, [])]
-        self.assertGreater(len(left), 4)
-        seen = []
-        while left:
-            function = left.pop()
-            if function in seen:
-                continue
-            seen.append(function)
+        reached = run_by_operators()
+        self.assertGreater(len(reached), 12)
+        for function in reached:
             lists = [node.targets[0].id for node in ast.walk(function) if isinstance(node, ast.Assign)
                      and isinstance(node.value, (ast.List, ast.ListComp)) and isinstance(node.targets[0], ast.Name)]
             for node in ast.walk(function):
                 self.assertNotIsInstance(node, ast.AugAssign, function.name)
-                if isinstance(node, (ast.Attribute, ast.Subscript)):
+                if isinstance(node, (ast.Attribute, ast.Subscript)) and decorators(function) != [function.name + ".setter"]:
                     self.assertIsInstance(node.ctx, ast.Load, function.name)
                 if isinstance(node, ast.Call):
                     name = node.func.id if isinstance(node.func, ast.Name) else node.func.attr
                     if name in CHANGING:
                         self.assertIn(node.func.value.id, lists, function.name)
-                    if name in functions:
-                        left.extend(functions[name])
+
+    def test_operators_call_nothing_that_they_are_passed_or_hold(self):
+        errors = {kind.name for kind in CLASSES}
+        for function in run_by_operators():
+            own = {item.arg for item in ast.walk(function) if isinstance(item, ast.arg)}
+            own |= {item.id for item in ast.walk(function) if isinstance(item, ast.Name) and isinstance(item.ctx, ast.Store)}
+            for node in [item for item in ast.walk(function) if isinstance(item, ast.Call)]:
+                if isinstance(node.func, ast.Name):
+                    self.assertNotIn(node.func.id, own | STORED, function.name)
+                    self.assertIn(node.func.id, errors | set(FUNCTIONS) | set(BUILTINS), function.name)
+                else:
+                    # What a class stores under the name of a method would be held and called.
+                    self.assertNotIn(node.func.attr, STORED, function.name)
+                    self.assertIn(node.func.attr, OWN_METHODS | set(METHODS), function.name)
 
     def test_words_and_escapes(self):
         for file in self.each():
@@ -344,7 +431,11 @@ class LanguageTest(unittest.TestCase):
                     name = node.targets[0].id
                     for item in file.of(ast.Name):
                         if item.id == name and isinstance(item.ctx, ast.Load):
-                            self.assertIsInstance(file.parents[item], (ast.Subscript, ast.Compare))
+                            parent = file.parents[item]
+                            if isinstance(parent, ast.Attribute):
+                                self.assertEqual(parent.attr, "get")
+                            else:
+                                self.assertIsInstance(parent, (ast.Subscript, ast.Compare))
 
 
 if __name__ == "__main__":
