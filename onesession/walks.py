@@ -17,7 +17,7 @@ class Walk:
         self.standing = begin(app, rule).standing
         self.told = []
 
-    def do(self, *deed):
+    def step_on(self, *deed):
         """Do a deed."""
         self.standing = step(self.app, self.rule, self.standing, deed).standing
         self.told.append(deed)
@@ -31,22 +31,22 @@ class Walk:
         words, numbers = self.standing[INPUTS], self.standing[EDITIONS]
         for slot, word, old in zip(self.app.input_names, inputs, words):
             if word != old:
-                self.do("set", slot, word)
+                self.step_on("set", slot, word)
         for module, number, old in zip(self.app.module_names, editions, numbers):
             if number != old:
-                self.do("edit", module, number)
+                self.step_on("edit", module, number)
 
     def move_to(self, spot):
         """Come to the state of a spot and, if it has one, to its word of the row."""
         inputs, editions, word = spot
         self.move(inputs, editions)
         if word is not None and (ROW, word) not in self.standing[ROWS]:
-            self.do("rowset", ROW, word)
+            self.step_on("rowset", ROW, word)
 
     def add_row_for(self, slot):
         """Add a row if a late slot is that of the rows."""
         if is_of_rows(self.app, slot):
-            self.do("add", ROW)
+            self.step_on("add", ROW)
 
     def come_to(self, page):
         """Come to a page that can be come to; nothing that it needs has landed before."""
@@ -54,13 +54,13 @@ class Walk:
             return
         inputs, editions = states_letting(self.app, page)[0]
         self.move(inputs, editions)
-        self.do("go", page)
+        self.step_on("go", page)
         self.load(page)
 
     def load(self, page):
         """Let what a page needs land until the page is shown."""
         while self.shown() != page:
-            self.do("land", self.first_act(self.app.page_named(page)[1]))
+            self.step_on("land", self.first_act(self.app.page_named(page)[1]))
 
     def first_act(self, slots):
         """Return the number of the first act of some slots, or None."""
@@ -71,22 +71,22 @@ class Walk:
 
     def land_first(self, slot):
         """Let the first act of a slot land."""
-        self.do("land", self.first_act((slot,)))
+        self.step_on("land", self.first_act((slot,)))
 
-    def land(self, slots):
+    def land_all(self, slots):
         """Let the acts of some slots land, the oldest first, until there is none."""
         number = self.first_act(slots)
         while number is not None:
-            self.do("land", number)
+            self.step_on("land", number)
             number = self.first_act(slots)
 
     def land_last(self, slots, slot, call):
         """Let the acts of some slots land, and one of a slot that was begun with a call behind all others."""
         number = self.first_other(slots, slot, call)
         while number is not None:
-            self.do("land", number)
+            self.step_on("land", number)
             number = self.first_other(slots, slot, call)
-        self.land(slots)
+        self.land_all(slots)
 
     def first_other(self, slots, slot, call):
         """Return the number of the first act of some slots beside the one that is to be the last, or None."""

@@ -57,28 +57,27 @@ def leave_and_return(walk, slot, found):
         walk.come_to(other)
         drop_acts(walk, slot, spot, away)
         walk.move_to(spot)
-        walk.do("go", page)
+        walk.step_on("go", page)
     else:
         ask_on_page(walk, slot, page, spot, away)
         walk.move_to(leaving)
-    walk.do("go", other)
+    walk.step_on("go", other)
     drop_acts(walk, slot, spot, away)
     walk.move_to(spot)
-    walk.do("go", page)
-    walk.land(walk.app.late_slots)
+    walk.step_on("go", page)
+    walk.land_all(walk.app.late_slots)
 
 
 def ask_on_page(walk, slot, page, spot, away):
     """Come to a page under turn "once" and stand in a spot with whose call the last act of a slot was begun."""
     walk.move_to(spot)
     if walk.shown() != page:
-        walk.do("go", page)
+        walk.step_on("go", page)
     while walk.last_begun(slot) != walk.call(slot, spot):
         # Only under one "one" an elder act is in the way. What is made of it is cleared in the spot, or it is dropped.
         if walk.rule.keep == "keep":
             walk.move_to(dropping_spot(walk, slot, spot, away))
         walk.land_first(slot)
-        walk.move_to(spot)
 
 
 def drop_acts(walk, slot, spot, away):
@@ -99,14 +98,15 @@ def dropping_spot(walk, slot, spot, away):
 def forget_act(walk, slot, page, last):
     """Open a session again while an act is under way, which is recorded as begun."""
     walk.add_row_for(slot)
-    left = page is not None and walk.first_act((slot,)) is None
+    # What is wanted everywhere, or on the first page, is under way already.
+    left = walk.first_act((slot,)) is None
     if left:
         walk.move_to(last)
-        walk.do("go", page)
-    walk.do("reopen", walk.standing[EDITIONS])
+        walk.step_on("go", page)
+    walk.step_on("reopen", walk.standing[EDITIONS])
     if left:
-        walk.do("go", page)
-    walk.land(walk.app.late_slots)
+        walk.step_on("go", page)
+    walk.land_all(walk.app.late_slots)
 
 
 def keep_word(walk, slot, page, first, last):
@@ -115,12 +115,12 @@ def keep_word(walk, slot, page, first, last):
         walk.come_to(page)
     walk.add_row_for(slot)
     walk.move_to(first)
-    walk.land((slot,))
+    walk.land_all((slot,))
     walk.move_to(last)
-    walk.do("reopen", last[1])
+    walk.step_on("reopen", last[1])
     if page is not None and walk.shown() != page:
-        walk.do("go", page)
-    walk.land(walk.app.late_slots)
+        walk.step_on("go", page)
+    walk.land_all(walk.app.late_slots)
 
 
 def call_elder(walk, handler, first, second):
@@ -130,16 +130,16 @@ def call_elder(walk, handler, first, second):
     if when == "later":
         # The page has just been shown, so the call that is put is that of the state of now.
         then = outcome_in(walk.app, handler, (walk.standing[INPUTS], walk.standing[EDITIONS]))
-        walk.do("press", handler)
+        walk.step_on("press", handler)
         unlike = first if outcome_in(walk.app, handler, first) != then else second
         walk.move(*unlike)
-        walk.do("timer", 0)
+        walk.step_on("timer", 0)
         return
     walk.move(*first)
     if held_outcome(walk, handler) == outcome_in(walk.app, handler, first):
         for state in held_walk(walk.app, walk.rule, handler, first, second):
             walk.move(*state)
-    walk.do("press", handler)
+    walk.step_on("press", handler)
 
 
 def held_outcome(walk, handler):
@@ -159,7 +159,7 @@ def show_barred(walk, page, found):
     walk.move(*letting)
     for slot in needs:
         walk.add_row_for(slot)
-    walk.do("go", page)
+    walk.step_on("go", page)
     walk.move(*shut)
     walk.load(page)
 
@@ -182,7 +182,7 @@ def send_wrong(walk, check, found):
         keep_right(walk, state, places)
     else:
         walk.move(*state)
-    walk.do("send")
+    walk.step_on("send")
 
 
 def take_right_last(walk, state, places):
@@ -203,8 +203,8 @@ def keep_right(walk, state, places):
         if check in walk.app.late_names:
             there = state if place is None else place
             walk.move(*there)
-            walk.land((check,))
+            walk.land_all((check,))
     walk.move(*state)
     # Where one act at a time is begun, the first time lets go of an elder one, and the second time of the last one.
-    walk.do("reopen", state[1])
-    walk.do("reopen", state[1])
+    walk.step_on("reopen", state[1])
+    walk.step_on("reopen", state[1])

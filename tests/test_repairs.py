@@ -343,6 +343,14 @@ class HealsTest(unittest.TestCase):
         self.assertEqual(verdict(app, rule), [("unsettled", "d")])
         go, words = ("rule", "sending", "go"), ("rule", "words", True)
         self.assertEqual(heals(app, rule, "unsettled", [go, words]), [(words,)])
+        # If both pages need d, no page is left for another one, but then the way to the second page takes a while.
+        app, rule = one_late(other_guard=X), Rule(ask="needed", turn="loaded")
+        self.assertEqual(verdict(app, rule), [("unsettled", "d")])
+        needs, land = ("needs", "view", ("d",)), ("rule", "guard", "land")
+        self.assertEqual(verdict(*with_changes(app, rule, [needs])), [("barred", "view")])
+        self.assertEqual(heals(app, rule, "unsettled", [needs]), [])
+        self.assertEqual(heals(app, rule, "unsettled", [needs, land]), [(needs, land)])
+        self.assertEqual(heals(app, rule, "unsettled", [land, needs]), [(land, needs)])
         # A handler that heals itself at the cost of a page.
         pages = (("home", ("d",), None), ("view", ("d",), ("m", (X,))))
         handlers = (("h", "m", "view", "x", (NOT_X,), (), "now"),)

@@ -213,6 +213,30 @@ class AppTextTest(TextCase):
         for count in ("01", "+1", "1.", "-1", "\u0661", "\u00b9", "1_0", "0", "3", "11", "one", "", "1 "):
             self.assert_wrong(1, read_app, FULL.replace("module m 1", "module m " + count))
 
+    def test_too_many_of_each(self):
+        """One more than there may be, with names that are new."""
+        most = ["words yes no", "module m 1", "module n 1", "input x yes", "input y yes", "input z yes", "made a m", "slot x", "made b m",
+                "slot a", "made c m", "slot b", "late d m", "slot x", "late e m", "slot x", "late f m", "slot x", "rows r no g m",
+                "slot r", "page home", "page view", "page last", "handler h m home x now", "slot x", "handler k m home x now", "slot x",
+                "form a b"]
+        self.assertEqual(write_app(read_app("\n".join(most))), "\n".join(most))
+        for behind, new in (("module n 1", ["module o 1"]), ("input z yes", ["input w yes"]), ("slot b", ["made q m", "slot x"]),
+                            ("rows r no g m", None), ("page last", ["page more"]), ("form a b", ["form c"]),
+                            ("form a b", None), ("form a b", ["handler j m home x now", "slot x"])):
+            at = most.index(behind) + 1
+            if new is None:
+                text = "\n".join(most[:at - 1] + [behind + (" c" if "form" in behind else " h")] + most[at:])
+                at -= 1
+            else:
+                text = "\n".join(most[:at] + new + most[at:])
+            self.assert_wrong(at, read_app, text)
+            self.assertEqual(self.assert_judged(text), at)
+        for head, new in (("rows r", ["late q m", "slot x"]), ("form", ["handler j m home x now", "slot x"])):
+            at = [line.startswith(head) for line in most].index(True)
+            text = "\n".join(most[:at] + new + most[at:])
+            self.assert_wrong(at, read_app, text)
+            self.assertEqual(self.assert_judged(text), at)
+
     def test_what_lines_ahead_allow(self):
         table = (
             # A name that stands already, of each kind.

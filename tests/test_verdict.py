@@ -207,6 +207,56 @@ class IsReasonTest(unittest.TestCase):
         self.assertIs(is_reason(app, one, "unsettled", "d", ("return", "home", "view", other, spot, spot)), True)
         self.assertIs(is_reason(app, once, "unsettled", "d", ("return", "home", "view", other, spot, spot)), False)
 
+    def test_a_check_is_wanted_everywhere(self):
+        spot, other = (("yes",), (0, 0), None), (("no",), (0, 0), None)
+        found = ("return", "home", "view", spot, other, spot)
+        self.assertIs(is_reason(one_late(), Rule(ask="needed"), "unsettled", "d", found), True)
+        self.assertIs(is_reason(one_late(form=("d",)), Rule(ask="needed"), "unsettled", "d", found), False)
+
+    def test_a_handler_of_a_page_that_is_never_come_to(self):
+        found = ("held", (("yes", "yes"), (0, 0)), (("no", "yes"), (0, 0)))
+        for when, rule in (("now", Rule(holds="listed")), ("later", Rule(timers="held"))):
+            for guard, expected in ((X, True), (("word", "no"), False), (None, True)):
+                app = handler_app(when=when, page="view", guard=guard)
+                self.assertIs(is_reason(app, rule, "elder", "h", found), expected)
+
+    def test_another_page(self):
+        rule, clear = Rule(turn="loaded"), Rule(turn="loaded", keep="clear")
+        letting, shut = (("yes",), (0, 0)), (("no",), (0, 0))
+        found = ("way", None, letting, shut)
+        self.assertIs(is_reason(one_late(home=(), other=("d",), other_guard=X), rule, "barred", "view", found), True)
+        self.assertIs(is_reason(one_late(home=("d",), other=(), other_guard=X), rule, "barred", "view", found), False)
+        # The first page is come to from another one, which does not need all that it needs, or where it may be cleared.
+        first = ("way", "view", letting, shut)
+        self.assertIs(is_reason(one_late(home_guard=X), rule, "barred", "home", first), True)
+        self.assertIs(is_reason(one_late(home_guard=X, other=("d",)), rule, "barred", "home", first), False)
+        self.assertIs(is_reason(one_late(home_guard=X, other=("d",)), clear, "barred", "home", first), True)
+        same = one_late(("word", "no"), home_guard=X, other=("d",))
+        self.assertIs(is_reason(same, clear, "barred", "home", first), False)
+        never = one_late(home_guard=X, other_guard=("word", "no"))
+        self.assertIs(is_reason(never, rule, "barred", "home", first), False)
+        rows = row_app(pages=(("home", ("g",), ("m", (X,))), ("view", ("g",), None)))
+        for other, expected in (("view", True), ("home", False), (None, False), ("zzz", False)):
+            found = ("way", other, (("yes",), (0,)), (("no",), (0,)))
+            self.assertIs(is_reason(rows, rule, "barred", "home", found), expected)
+            self.assertIs(is_reason(rows, clear, "barred", "home", found), expected)
+
+    def test_reasons_of_apps_that_are_a_little_different(self):
+        for source in sources(60, start=900):
+            app = small_app(source)
+            parts = {"words": app.words, "modules": app.modules, "inputs": app.inputs, "pages": app.pages, "made": app.made,
+                     "late": app.late, "rows": app.rows, "handlers": app.handlers, "form": app.form}
+            others = [App(**{**parts, "form": None}), App(**{**parts, "pages": tuple((page[0], (), page[2]) for page in app.pages)}),
+                      App(**{**parts, "pages": tuple((page[0], page[1], None) for page in app.pages)}),
+                      App(**{**parts, "pages": tuple((page[0], app.late_slots, page[2]) for page in app.pages)})]
+            rule = random_rule(source)
+            for kind, name in all_faults(app):
+                known = ALL_REASONS[kind](app, rule, name)
+                for other in others:
+                    if (kind, name) in all_faults(other):
+                        found = ALL_REASONS[kind](other, rule, name)
+                        self.assert_each(app, rule, kind, name, source.sample(found, min(12, len(found))), known)
+
     def test_places(self):
         app = form_app(form=("d", "a"), made=(("a", "m", (Y,)),))
         wrong, right = (("no", "yes"), (0,)), (("yes", "yes"), (0,))
@@ -216,6 +266,8 @@ class IsReasonTest(unittest.TestCase):
             self.assertIs(is_reason(app, rule, "sent", "d", ("sent", "late", wrong, places)), False, places)
         # Where the made check is wrong as well, there is no place for it.
         both = (("no", "no"), (0,))
+        self.assertIs(is_reason(app, rule, "sent", "d", ("sent", "late", both, (right, right))), False)
+        self.assertIs(is_reason(app, Rule(saves="values"), "sent", "d", ("sent", "saved", both, (right, right))), False)
         self.assertIs(is_reason(app, rule, "sent", "d", ("sent", "late", both, (right, None))), False)
         self.assertIs(is_reason(app, rule, "sent", "d", ("sent", "saved", wrong, (right, None))), False)
         self.assertIs(is_reason(app, Rule(saves="values"), "sent", "d", ("sent", "saved", wrong, (right, None))), True)

@@ -244,6 +244,23 @@ class ReturnTest(WitnessCase):
             for turn in ("once", "loaded"):
                 self.assert_witness(app, Rule(ask="needed", one=one, turn=turn), "unsettled", "d", ("return",))
 
+    def test_an_elder_act_that_would_be_taken_with_the_due_word(self):
+        # Only the editions are told apart; where x alone is another one, d is the same, so the first act must not be taken.
+        exprs = (("map", ("yes", "yes"), X), NOT_X)
+        app = App(YN, (("m", 2),), (("x", "no"),), (("home", ("d",), None), ("view", (), None)), late=(("d", "m", exprs),))
+        rule = Rule(words=False, one="one", ask="needed")
+        self.assertEqual(why(app, rule, "unsettled", "d")[3], (("yes",), (0,), None))
+        self.assert_witness(app, rule, "unsettled", "d", ("return",))
+
+    def test_a_spot_that_is_some_steps_away_under_clear(self):
+        neither = ("pair", (("no", "no"), ("no", "yes")), X, Y)
+        pages = (("home", ("d",), ("m", (neither,))), ("view", (), None))
+        for first in (("yes", "no"), ("yes", "yes"), ("no", "no")):
+            app = App(YN, (("m", 1),), (("x", first[0]), ("y", first[1])), pages, late=(("d", "m", (BOTH,)),))
+            rule = Rule(words=False, code=False, keep="clear", one="one", ask="needed")
+            self.assertEqual(why(app, rule, "unsettled", "d")[3:5], ((("no", "no"), (0,), None), (("yes", "yes"), (0,), None)))
+            self.assert_witness(app, rule, "unsettled", "d", ("return",))
+
     def test_rows(self):
         for pages in ((("home", ("g",), None), ("view", (), None)), (("home", (), None), ("view", ("g",), None)),
                       (("home", ("g",), None), ("view", ("g",), None), ("last", (), None))):
@@ -278,6 +295,16 @@ class SavedTest(WitnessCase):
                     app = one_late(home=(), other=("d",), other_guard=("map", ("no", "yes"), X))
                     self.assert_witness(app, rule, "unsettled", "d", ("saved", "view"))
                     self.assert_witness(one_late(other=("d",)), rule, "unsettled", "d", ("saved", "home"))
+
+    def test_another_act_is_begun_when_the_session_is_opened_again(self):
+        # The act of e of the first state is under way, so e is asked for in the state of view when nothing is under way any more.
+        late = (("d", "m", (X,)), ("e", "m", (X,)))
+        pages = (("home", ("e",), None), ("view", ("d",), ("m", (NOT_X,))))
+        app = App(YN, (("m", 1),), (("x", "yes"),), pages, late=late)
+        for turn in ("once", "loaded"):
+            rule = Rule(saves="records", one="one", ask="needed", turn=turn, words=False, newest=True)
+            told = self.assert_witness(app, rule, "unsettled", "d", ("saved", "view"))
+            self.assertEqual(told[-1], ("land", 0))
 
     def test_another_edition(self):
         app = one_late(editions=(("word", "yes"), ("word", "no")))
