@@ -114,6 +114,8 @@ class LeastComparedTest(unittest.TestCase):
             self.assertIs(type(told), list)
             self.assertEqual(told, self.expected(app, rule))
             seen |= {tuple(len(flags) for flags in told)}
+            # Beside words and code, newest is no matter, so no least set has all three flags.
+            self.assertNotIn(FLAGS, told)
             self.assertEqual(kept_of(app, rule), kept)
             told.clear()
             self.assertEqual(least_compared(app, rule), self.expected(app, rule))
